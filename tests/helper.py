@@ -30,14 +30,9 @@ def long_row_without_end(size):
     return left, right - 1, [rope for rope in ropes if rope[1] < right - 1]
 
 
-def back_and_forth(size):
-    """A row in which each left point that comes unpairs all of those ahead of it."""
-    ropes = []
-    for one in range(size):
-        ropes.append((one, 0))
-        for other in range(1, min(one + 1, 11)):
-            ropes.append((one, other))
-    return size, size, ropes
+def pushed_on(size):
+    """Each left point that comes pushes the first one on to another right point."""
+    return size, size, [(0, other) for other in range(size)] + [(one, one - 1) for one in range(1, size)]
 
 
 def turned(banks):
@@ -78,7 +73,7 @@ def named_banks():
     yield 1, 100, [(0, other) for other in range(100)]
     yield 34, 35, list(itertools.product(range(34), range(35)))
     for size in (2, 3, 10, 99, 100):
-        for row in (long_row, long_row_without_end, back_and_forth):
+        for row in (long_row, long_row_without_end, pushed_on):
             yield row(size)
             yield turned(row(size))
     yield long_row(1500)

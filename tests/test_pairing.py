@@ -64,6 +64,7 @@ class MostPairsTest(JudgingTest):
         for size in (2, 5, 100, 1500):
             for turn in (lambda banks: banks, helper.turned):
                 self.assertEqual(self.check_most(*turn(helper.long_row(size))), size)
+                self.assertEqual(self.check_most(*turn(helper.pushed_on(size))), size)
                 self.assertEqual(self.check_most(*turn(helper.long_row_without_end(size))), size - 1)
 
     def test_the_only_answers(self):
