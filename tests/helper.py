@@ -1,7 +1,11 @@
-"""Banks and ropes to test with, and judges that don't use the program."""
+"""Banks, ropes and deeds to test with, and judges of what the program tells."""
 
 import itertools
 import random
+import unittest
+
+from twobanks.banks import are_pairs, is_apart, is_cover
+from twobanks.errors import BankError
 
 BEYOND_ALL = 10 ** 5000
 
@@ -134,3 +138,97 @@ def apart_by_meaning(left, right, ropes, ones, others):
     """Point 6, word by word."""
     joined = [pair for pair in itertools.product(ones, others) if pair in ropes]
     return lists_by_meaning(left, right, ones, others) and joined == []
+
+
+def most_by_trying(ropes):
+    """How many pairs can be made, by trying: the first rope's left point is left alone or paired each way."""
+    if ropes == []:
+        return 0
+    one = ropes[0][0]
+    away = [rope for rope in ropes if rope[0] != one]
+    most = most_by_trying(away)
+    for other in {rope[1] for rope in ropes if rope[0] == one}:
+        most = max(most, 1 + most_by_trying([rope for rope in away if rope[1] != other]))
+    return most
+
+
+def most_by_search(left, ropes):
+    """How many pairs can be made, for banks that are too great to try all ways."""
+    taken = {}
+
+    def place(one, seen):
+        for each, other in ropes:
+            if each == one and other not in seen:
+                seen.add(other)
+                if other not in taken or place(taken[other], seen):
+                    taken[other] = one
+                    return True
+        return False
+
+    return sum(place(one, set()) for one in range(left))
+
+
+def is_lonely(left, right, ropes):
+    """Whether some point has no rope."""
+    return ({one for one, other in ropes} != set(range(left))
+            or {other for one, other in ropes} != set(range(right)))
+
+
+def deeds_by_chance(seed, left, right, many):
+    """As many deeds, most of them between points of the banks, the same for each seed.
+
+    Ties and loosenings come in spells, so that there are many ropes at some times and few at others.
+    """
+    chance = random.Random(seed)
+    deeds = []
+    while len(deeds) < many:
+        ties = chance.randrange(1, 10)
+        for turn in range(chance.randrange(1, 60)):
+            one, other = chance.randrange(left), chance.randrange(right)
+            if chance.randrange(30) == 0:
+                one, other = chance.choice(((-1, other), (left, other), (one, -1), (one, right), (left, right)))
+            word = "tie" if chance.randrange(10) < ties else "loosen"
+            deeds.append(("look",) if chance.randrange(8) == 0 else (word, one, other))
+    return deeds[:many]
+
+
+class Judging(unittest.TestCase):
+    """What every telling of pairs, covers, points apart and refusals has to keep to."""
+
+    def check_pairs(self, left, right, ropes, pairs):
+        self.assertIs(type(pairs), list)
+        for pair in pairs:
+            self.assertIs(type(pair), tuple)
+            self.assertEqual(len(pair), 2)
+        self.assertEqual(pairs, sorted(pairs))
+        self.assertTrue(pairs_by_meaning(left, right, ropes, pairs))
+        self.assertIs(are_pairs(left, right, ropes, pairs), True)
+
+    def check_lists(self, left, right, ones, others):
+        self.assertIs(type(ones), list)
+        self.assertIs(type(others), list)
+        self.assertTrue(lists_by_meaning(left, right, ones, others))
+
+    def check_cover(self, left, right, ropes, ones, others):
+        self.check_lists(left, right, ones, others)
+        self.assertTrue(cover_by_meaning(left, right, ropes, ones, others))
+        self.assertIs(is_cover(left, right, ropes, ones, others), True)
+
+    def check_apart(self, left, right, ropes, ones, others):
+        self.check_lists(left, right, ones, others)
+        self.assertTrue(apart_by_meaning(left, right, ropes, ones, others))
+        self.assertIs(is_apart(left, right, ropes, ones, others), True)
+
+    def check_largest(self, left, right, ropes, told):
+        """A tuple of pairs and a cover with as many points, so that there can't be more pairs."""
+        self.assertIs(type(told), tuple)
+        pairs, ones, others = told
+        self.check_pairs(left, right, ropes, pairs)
+        self.check_cover(left, right, ropes, ones, others)
+        self.assertEqual(len(ones) + len(others), len(pairs))
+        return len(pairs)
+
+    def check_refused(self, error, call, *handed):
+        with self.assertRaises(BankError) as caught:
+            call(*handed)
+        self.assertIs(type(caught.exception), error)

@@ -118,7 +118,8 @@ class CoverAndApartTest(unittest.TestCase):
             self.assertIs(judge(3, 4, ROPES, ones, bad), False, bad)
 
     def test_a_point_twice(self):
-        self.check_refused_lists(is_cover, [0, 2], [1, 3], [[0, 0, 2], [0, 2, 2], [0, 2, 0]], [[1, 1], [1, 3, 3], [1, 3, 1]])
+        twice = [[1, 1], [1, 3, 3], [1, 3, 1]]
+        self.check_refused_lists(is_cover, [0, 2], [1, 3], [[0, 0, 2], [0, 2, 2], [0, 2, 0]], twice)
         self.check_refused_lists(is_apart, [1], [0, 2, 3], [[1, 1]], [[0, 0, 2, 3], [0, 2, 2, 3], [0, 2, 3, 0]])
 
     def test_not_from_the_least_to_the_greatest(self):
@@ -158,26 +159,21 @@ class CoverAndApartTest(unittest.TestCase):
         self.assertGreater(min(seen.values()), 20)
 
 
-class RefusedAndUnchangedTest(unittest.TestCase):
+class RefusedAndUnchangedTest(helper.Judging):
     def test_no_point_ahead_of_anything_else(self):
         for left, right in ((3, 3), (2, 4), (1, 1), (0, 2), (2, 0), (0, 0)):
             for ropes in helper.bad_ropes(left, right):
                 for pairs in ([], [(0, 0)], [(0, 0), (0, 0)], [(-1, 7)], list(ropes)):
-                    with self.assertRaises(NoPoint):
-                        are_pairs(left, right, ropes, pairs)
+                    self.check_refused(NoPoint, are_pairs, left, right, ropes, pairs)
                 for ones, others in (([], []), ([0], [0]), ([1, 0], []), ([], [0, 0]), ([-1], [9])):
-                    with self.assertRaises(NoPoint):
-                        is_cover(left, right, ropes, ones, others)
-                    with self.assertRaises(NoPoint):
-                        is_apart(left, right, ropes, ones, others)
+                    self.check_refused(NoPoint, is_cover, left, right, ropes, ones, others)
+                    self.check_refused(NoPoint, is_apart, left, right, ropes, ones, others)
 
     def test_the_banks_are_told_apart(self):
         for judge, told in ((are_pairs, ([],)), (is_cover, ([0], [])), (is_apart, ([], []))):
             self.assertIs(judge(1, 6, [(0, 5)], *told), True)
-            with self.assertRaises(NoPoint):
-                judge(1, 6, [(5, 0)], *told)
-            with self.assertRaises(NoPoint):
-                judge(6, 1, [(0, 5)], *told)
+            self.check_refused(NoPoint, judge, 1, 6, [(5, 0)], *told)
+            self.check_refused(NoPoint, judge, 6, 1, [(0, 5)], *told)
 
     def check_unchanged(self, judge, *told):
         before = copy.deepcopy(told)

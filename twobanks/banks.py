@@ -18,6 +18,11 @@ def check_ropes(left, right, ropes):
             raise NoPoint("a rope has a number that is no point's of the right bank")
 
 
+def points_besides(bank, points):
+    """All other points of the bank, from the least to the greatest."""
+    return [point for point in range(bank) if point not in points]
+
+
 def are_rising_points(bank, numbers):
     """True where the numbers are points of the bank, from the least to the greatest, each once."""
     least = 0

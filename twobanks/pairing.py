@@ -1,6 +1,6 @@
 """The most pairs, with a cover that shows it; and whether the whole left bank can be paired."""
 
-from twobanks.banks import check_ropes
+from twobanks.banks import check_ropes, points_besides
 
 
 def neighbours_of_left(left, ropes):
@@ -12,10 +12,11 @@ def neighbours_of_left(left, ropes):
 
 
 def reach(neighbours, starts, left_of):
-    """Each point of the right bank that is reached from the starts, with the point it is reached from.
+    """A tuple of the right points that are reached from the starts, and of the first unpaired one or None.
 
     A way goes to the right along any rope, and back to the left from a pair's one point to its
-    other. The starts stand in no pair; left_of tells each paired right point its left one.
+    other. The starts stand in no pair; left_of tells each paired right point its left one. Each
+    point that is reached is told with the left point it is reached from.
     """
     reached_from = {}
     waiting = list(starts)
@@ -26,9 +27,10 @@ def reach(neighbours, starts, left_of):
         for other in neighbours[one]:
             if other not in reached_from:
                 reached_from[other] = one
-                if other in left_of:
-                    waiting.append(left_of[other])
-    return reached_from
+                if other not in left_of:
+                    return (reached_from, other)
+                waiting.append(left_of[other])
+    return (reached_from, None)
 
 
 def change_pairs(right_of, left_of, reached_from, end):
@@ -42,15 +44,19 @@ def change_pairs(right_of, left_of, reached_from, end):
         other = former
 
 
+def pair_once_more(neighbours, starts, right_of, left_of):
+    """Pair the points anew with one pair more, where a way from the starts allows it."""
+    found = reach(neighbours, starts, left_of)
+    if found[1] is not None:
+        change_pairs(right_of, left_of, found[0], found[1])
+
+
 def largest_pairing(neighbours):
     """As many pairs as can be, from the least point of the left bank to the greatest."""
     right_of = {}
     left_of = {}
     for start in range(len(neighbours)):
-        reached_from = reach(neighbours, [start], left_of)
-        ends = [other for other in reached_from if other not in left_of]
-        if len(ends) > 0:
-            change_pairs(right_of, left_of, reached_from, ends[0])
+        pair_once_more(neighbours, [start], right_of, left_of)
     return sorted(right_of.items())
 
 
@@ -58,10 +64,10 @@ def cover_by_pairs(neighbours, pairs):
     """The two lists of a cover with one point of each pair of a largest pairing."""
     right_of = dict(pairs)
     left_of = dict([(other, one) for one, other in pairs])
-    unpaired = [one for one in range(len(neighbours)) if one not in right_of]
+    unpaired = points_besides(len(neighbours), right_of)
     # No unpaired right point is reached, else there could be one pair more. And a rope from a
     # left point that is reached leads to a right point that is reached, so this covers it.
-    reached_from = reach(neighbours, unpaired, left_of)
+    reached_from = reach(neighbours, unpaired, left_of)[0]
     ones = [one for one, other in pairs if other not in reached_from]
     return (ones, sorted(reached_from))
 
@@ -84,6 +90,6 @@ def all_left(left, right, ropes):
     # The cover has fewer points than the left bank. Left points outside it have all their
     # neighbours in its right list, which is therefore shorter than they are many.
     covered = told[1]
-    ones = [one for one in range(left) if one not in covered]
+    ones = points_besides(left, covered)
     others = sorted(set([other for one, other in ropes if one not in covered]))
     return ("few", ones, others)
